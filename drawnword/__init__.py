@@ -1,0 +1,1 @@
+"""Drawnword: closed lines, and the words of their crossings."""
