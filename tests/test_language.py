@@ -76,3 +76,21 @@ class Language(unittest.TestCase):
             for node in ast.walk(tree):
                 if isinstance(node, ast.Name):
                     self.assertIn(node.id, bound | BUILT_IN, path)
+
+    def test_no_local_is_called_like_an_import_or_a_class_l15(self):
+        for path, text, tree in self.each():
+            tops = {name.name for node in tree.body if isinstance(node, ast.ImportFrom) for name in node.names}
+            tops |= {node.name for node in tree.body if isinstance(node, ast.ClassDef)}
+            names = {node.id for node in ast.walk(tree) if isinstance(node, ast.Name)
+                     and isinstance(node.ctx, ast.Store)}
+            names |= {node.arg for node in ast.walk(tree) if isinstance(node, ast.arg)}
+            self.assertFalse(tops & names, path)
+
+    def test_is_stands_beside_none_and_truths_alone_l20(self):
+        for path, text, tree in self.each():
+            for node in ast.walk(tree):
+                if isinstance(node, ast.Compare):
+                    for sign, right in zip(node.ops, node.comparators):
+                        if isinstance(sign, (ast.Is, ast.IsNot)):
+                            self.assertIsInstance(right, ast.Constant, path)
+                            self.assertIn(right.value, (None, True, False), path)
