@@ -8,6 +8,13 @@ LETTERS = "abcdefghijklmnopqrstuvwxyz"
 RING_WORDS = ("aebfcadbecfd", "abcdeafcbedf", "aabfcgdbecfdge", "aebgcadhebfcgdhf", "afbgcadhebfdgche",
               "aabfchdbeifcgdheig", "aabgchdbeifcgehdif")
 PAIR_WORDS = ("abcabdecde", "aabcdbcefdef", "aabbcdecdfgefg")
+# Texts that are not written as words are, and texts so written whose names are no word.
+NOT_SO_WRITTEN = ("", " ", "  ", " a a", "a a ", "a  a", "a a  b b", "  a a", "a a  ", "A A", "a A", "a1 a1", "1 1",
+                  "0", "abcdefghi abcdefghi", "a a abcdefghi", "a,a", "a, a", "a;a", "a a;", "a a.", "a-b a-b", "_ _",
+                  "` `", "{ {", "~ ~", "[] []", "\"a\" \"a\"", "'a' 'a'", "None", "NONE", "none ", " none",
+                  "none  none", "a none ", "a\\a")
+NO_WORDS = ("a", "a b", "a a b", "b a a", "a a a", "a a a a", "a b a b a", "a a none", "none a a", "none none none",
+            "a a b b b b", "abcdefgh", "told", "a aa", "aa a")
 
 
 class Dice:

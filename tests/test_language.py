@@ -11,6 +11,9 @@ BARRED = (ast.GeneratorExp, ast.Yield, ast.YieldFrom, ast.With, ast.Global, ast.
           ast.AsyncFunctionDef, ast.Await, ast.Div, ast.MatMult)
 BUILT_IN = set("""len range enumerate zip min max sum abs sorted reversed int str bool bytes list tuple dict set
     isinstance ord repr any all divmod ValueError KeyError IndexError LookupError ZeroDivisionError""".split())
+METHODS = set("""append clear copy count endswith extend find get index insert isalnum isalpha isdigit islower isspace
+    isupper items join keys ljust lower lstrip partition pop remove replace reverse rfind rjust rpartition rsplit rstrip
+    setdefault split splitlines startswith strip update upper values zfill bit_length add discard""".split())
 BARRED_WORDS = re.compile(r"\b(type|typing|enum|Enum|Flag|Generic|Protocol|ABC|namedtuple|NamedTuple|TypedDict)\b"
                           r"|dataclass|overload|contextmanager")
 
@@ -94,3 +97,79 @@ class Language(unittest.TestCase):
                         if isinstance(sign, (ast.Is, ast.IsNot)):
                             self.assertIsInstance(right, ast.Constant, path)
                             self.assertIn(right.value, (None, True, False), path)
+
+    def test_the_top_of_a_file_holds_plain_things_l3(self):
+        for path, text, tree in self.each():
+            for node in tree.body:
+                docstring = isinstance(node, ast.Expr) and isinstance(node.value, ast.Constant) and node is tree.body[0]
+                plain = (ast.ImportFrom, ast.FunctionDef, ast.ClassDef, ast.Assign)
+                self.assertTrue(docstring or isinstance(node, plain), path)
+                if isinstance(node, ast.Assign):
+                    self.hold_plain_value(node, tree)
+
+    def hold_plain_value(self, row, tree):
+        """Numbers, texts, and lists, tuples and dicts of these and of functions defined above."""
+        above = {node.name for node in tree.body if isinstance(node, ast.FunctionDef) and node.lineno < row.lineno}
+        for node in ast.walk(row.value):
+            self.assertIsInstance(node, (ast.Constant, ast.List, ast.Tuple, ast.Dict, ast.Name, ast.Load))
+            if isinstance(node, ast.Name):
+                self.assertIn(node.id, above)
+            if isinstance(node, (ast.List, ast.Dict)):
+                self.assertIs(node, row.value)
+
+    def test_names_of_a_top_are_bound_once_l15(self):
+        for path, text, tree in self.each():
+            names = []
+            for node in tree.body:
+                if isinstance(node, ast.ImportFrom):
+                    names += [name.asname or name.name for name in node.names]
+                elif isinstance(node, ast.Assign):
+                    names += [target.id for target in node.targets]
+                elif isinstance(node, (ast.FunctionDef, ast.ClassDef)):
+                    names.append(node.name)
+            self.assertEqual(len(set(names)), len(names), path)
+
+    def test_no_two_files_draw_from_one_another_l16(self):
+        draws = {path.stem: {node.module.split(".")[1] for node in tree.body if isinstance(node, ast.ImportFrom)}
+                 for path, text, tree in self.each()}
+        while draws:
+            ends = [name for name in draws if not draws[name]]
+            self.assertTrue(ends, draws)
+            draws = {name: drawn - set(ends) for name, drawn in draws.items() if name not in ends}
+
+    def test_names_are_drawn_from_the_file_that_defines_them_l16(self):
+        tops = {path.stem: {node.name for node in tree.body if isinstance(node, (ast.FunctionDef, ast.ClassDef))}
+                | {node.targets[0].id for node in tree.body if isinstance(node, ast.Assign)}
+                for path, text, tree in self.each()}
+        for path, text, tree in self.each():
+            for node in tree.body:
+                if isinstance(node, ast.ImportFrom):
+                    self.assertTrue({name.name for name in node.names} <= tops[node.module.split(".")[1]], path)
+
+    def test_methods_and_values_l18_l25(self):
+        trees = [tree for path, text, tree in self.each()]
+        classes = [node for tree in trees for node in tree.body if isinstance(node, ast.ClassDef)]
+        own = {part.name for node in classes for part in node.body if isinstance(part, ast.FunctionDef)}
+        given = {node.attr for tree in trees for node in ast.walk(tree)
+                 if isinstance(node, ast.Attribute) and isinstance(node.ctx, ast.Store)}
+        self.assertFalse(own & given)
+        for tree in trees:
+            called = {id(node.func) for node in ast.walk(tree) if isinstance(node, ast.Call)}
+            for node in ast.walk(tree):
+                if isinstance(node, ast.Attribute):
+                    self.assertIn(node.attr, METHODS | own if id(node) in called else given)
+
+    def test_errors_are_made_on_the_spot_l19(self):
+        for path, text, tree in self.each():
+            for node in ast.walk(tree):
+                self.assertNotIsInstance(node, ast.Try, path)
+                if isinstance(node, ast.Raise):
+                    self.assertIsInstance(node.exc, ast.Call, path)
+                    self.assertIn(node.exc.func.id, ("NotDrawn", "NoMove", "NoText", "NoWord", "NoRow"), path)
+
+    def test_what_is_walked_on_the_spot_is_not_kept_l23(self):
+        kept = ("zip", "enumerate", "reversed", "range")
+        for path, text, tree in self.each():
+            for node in ast.walk(tree):
+                if isinstance(node, (ast.Assign, ast.Return)) and isinstance(node.value, ast.Call):
+                    self.assertNotIn(getattr(node.value.func, "id", ""), kept, path)

@@ -3,12 +3,16 @@
 import copy
 import unittest
 
+from drawnword.clerk import Clerk
 from drawnword.colours import borders, by_turns, colours, heights
 from drawnword.drawings import drawing, is_drawing, patches
-from drawnword.errors import NotDrawn
+from drawnword.errors import DrawError, NotDrawn
 from drawnword.forms import alike, form, numbers, read_from
 from drawnword.looks import looked
+from drawnword.moves import curled, poked, uncurled, unpoked
+from drawnword.pieces import is_whole, parted, together
 from drawnword.rings import rings
+from drawnword.texts import read_word, show_word
 from drawnword.turns import turns
 from drawnword.words import crossed, crossed_with, is_name, is_word, names_of, partner
 from tests.helper import (Dice, are_a_drawing, crossings_of, other_hands, renamed, set_in_by_chance, thrown_crossings,
@@ -29,6 +33,12 @@ def calls_of(word):
     yield drawing, [word]
     yield by_turns, [word]
     yield rings, [word]
+    yield is_whole, [word]
+    yield parted, [word]
+    yield together, [parted(word)]
+    yield show_word, [word]
+    yield read_word, [show_word(word)]
+    yield from calls_with_curls(word)
     for start in {0, len(word) // 2, max(0, len(word) - 1)}:
         for back in (False, True):
             yield read_from, [word, start, back]
@@ -40,6 +50,14 @@ def calls_of(word):
         yield crossed, [word, word[0], word[-1]]
         yield crossed_with, [word, word[0]]
     yield from calls_with_crossings(word)
+
+
+def calls_with_curls(word):
+    for at in (-1, 0, len(word) // 2, len(word), len(word) + 1):
+        for name in ["zz", "A"] + word[:1]:
+            yield curled, [word, at, name]
+    for name in ["zz"] + names_of(word):
+        yield uncurled, [word, name]
 
 
 def calls_with_crossings(word):
@@ -55,6 +73,10 @@ def calls_with_crossings(word):
             for outside in {0, 1, len(crossings) + 1}:
                 yield heights, [word, crossings, outside]
                 yield turns, [word, crossings, outside]
+            for number, walk in enumerate(patches(word, crossings)):
+                yield unpoked, [word, crossings, number]
+                for other in walk[1:3] + [-1]:
+                    yield poked, [word, crossings, (walk + [0])[0], other, "yy", "zz"]
 
 
 def told_by(deed, given):
@@ -63,6 +85,8 @@ def told_by(deed, given):
         return deed(*given)
     except NotDrawn as refusal:
         return ("refused", refusal.why)
+    except DrawError as refusal:
+        return ("refused", type(refusal).__name__)
 
 
 def lists_in(told):
@@ -122,10 +146,27 @@ class Untouched(unittest.TestCase):
         for answer, kept in told:
             self.assertEqual(answer, kept)
 
+    def test_every_move_is_tried_both_ways(self):
+        tried = {(deed, type(told_by(deed, given))) for word in WORDS for deed, given in calls_of(word)}
+        for deed in (curled, uncurled, poked, unpoked):
+            self.assertTrue({(deed, list), (deed, tuple)} <= tried)
+
+    def test_a_clerks_answers_change_no_later_ones(self):
+        for word in WORDS:
+            clerk = Clerk()
+            clerk.say(f"word {show_word(word)}")
+            rows = ("told", "why", "form", "patches", "rings", "pieces", "alike a a", "piece 99", "nothing")
+            first = [copy.deepcopy(told_by(clerk.say, [row])) for row in rows]
+            for row in rows:
+                for told in list(lists_in(told_by(clerk.say, [row]))):
+                    told.append("spoilt")
+            self.assertEqual([told_by(clerk.say, [row]) for row in rows], first)
+
     def test_answers_of_yes_and_no_are_truths(self):
         self.assertIs(type(is_name("a")), bool)
         self.assertIs(type(is_name("")), bool)
         for word in WORDS:
             self.assertIs(type(is_word(word)), bool)
+            self.assertIs(type(is_whole(word)), bool)
             for crossings in (crossings_of(word, set()), crossings_of(word, set(word))):
                 self.assertIs(type(is_drawing(word, crossings)), bool)
