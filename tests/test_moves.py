@@ -228,8 +228,8 @@ class Pairs(Moves):
         self.assertGreater(put_in, 500)
 
     def test_every_two_walkers_of_words_of_four_names(self):
-        for at, (word, crossings) in enumerate(small_drawings(4)):
-            if len(word) == 8 and at % 9 == 0:
+        for word, crossings in small_drawings(4):
+            if len(word) == 8:
                 for one in range(-1, 17):
                     for other in range(-1, 17):
                         more = self.hold(word, crossings, one, other)
